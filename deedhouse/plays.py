@@ -5,15 +5,29 @@ from deedhouse.house import Play
 # What's told in the place of a kind where a deed uses nothing.
 NO_KIND = -1
 
+# The deed that is the end.
+END = 0
+
+
+def is_end_done(play):
+    """Whether the end is done in the play."""
+    return END in play.done
+
 
 def holds_all(behind, wanted):
     """Whether all the wanted deeds are among those behind."""
-    return all([d in behind for d in wanted])
+    for d in wanted:
+        if d not in behind:
+            return False
+    return True
 
 
 def are_met(needs, behind):
     """Whether the deeds behind hold all of some one of the sets."""
-    return any([holds_all(behind, wanted) for wanted in needs])
+    for wanted in needs:
+        if holds_all(behind, wanted):
+            return True
+    return False
 
 
 def kinds_for(deeds, play, d):

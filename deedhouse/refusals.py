@@ -1,7 +1,8 @@
 """For each call the refusal that's due, or 0 for none.
 
 In each function the refusals are looked for from the one nearest to 0 on:
-so the first that's found is the one to be answered.
+so the first that's found is the one to be answered. That there's no row, the
+furthest from 0, is found where the row is made, once nothing here is due.
 """
 
 from deedhouse.plays import kinds_for
@@ -15,6 +16,7 @@ HOUSE_STANDS = -5
 NOT_AS_MANY_AS_KINDS = -6
 PLAY_BEGUN = -7
 CANNOT_BE_DONE = -8
+NO_ROW = -9
 
 MOST_DEEDS = 16
 MOST_KINDS = 5
@@ -119,6 +121,30 @@ def refuse_sure(house, given):
     return NONE_DUE
 
 
+def refuse_bound(house, given):
+    """11 bound."""
+    kinds = given[0]
+    if not is_list_within(kinds, MOST_KINDS, 0, LAST_KIND) or not is_rising(kinds):
+        return NOT_AS_TOLD
+    if house is None:
+        return NO_HOUSE
+    if any([kind >= len(house.first) for kind in kinds]):
+        return NO_SUCH
+    return NONE_DUE
+
+
+def refuse_deed_number(house, given):
+    """A call that a deed's number alone is handed to."""
+    d = given[0]
+    if not is_deed_number(d):
+        return NOT_AS_TOLD
+    if house is None:
+        return NO_HOUSE
+    if d >= len(house.deeds):
+        return NO_SUCH
+    return NONE_DUE
+
+
 REFUSALS = {
     0: refuse_house,
     1: refuse_deed,
@@ -130,6 +156,15 @@ REFUSALS = {
     7: refuse_bare,
     8: refuse_accepts,
     9: refuse_sure,
+    10: refuse_bare,
+    11: refuse_bound,
+    12: refuse_bare,
+    13: refuse_bare,
+    14: refuse_bare,
+    15: refuse_bare,
+    16: refuse_deed_number,
+    17: refuse_deed_number,
+    18: refuse_deed_number,
 }
 
 

@@ -38,6 +38,31 @@ def sure(d, *behind):
     return [9, d] + row(behind)
 
 
+SERVED = [10]
+
+
+def bound(*kinds):
+    return [11] + row(kinds)
+
+
+STATES = [12]
+DEAD = [13]
+WAY = [14]
+DOOM = [15]
+
+
+def must(d):
+    return [16, d]
+
+
+def look(d):
+    return [17, d]
+
+
+def rivals(d):
+    return [18, d]
+
+
 def cut(flat):
     """The answers one by one, without their counts."""
     told = []
